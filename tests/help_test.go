@@ -25,15 +25,15 @@ func mix(pieces []string, most int) []string {
 	return all
 }
 
-// lists is all lists of at most so many of the given texts.
-func lists(texts []string, most int) [][]string {
-	all := [][]string{nil}
+// lists is all lists of at most so many of the given things.
+func lists[T any](things []T, most int) [][]T {
+	all := [][]T{nil}
 	last := all
 	for range most {
-		var next [][]string
+		var next [][]T
 		for _, list := range last {
-			for _, text := range texts {
-				next = append(next, append(slices.Clone(list), text))
+			for _, thing := range things {
+				next = append(next, append(slices.Clone(list), thing))
 			}
 		}
 		all = append(all, next...)
